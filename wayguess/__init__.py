@@ -1,0 +1,1 @@
+"""Wayguess: ways guessed ahead."""
