@@ -6,7 +6,7 @@ import random
 import unittest
 
 from deep import deep_things
-from wayguess.cells import counter, is_cell, plain_cell
+from wayguess.cells import counter, is_cell, plain_cell, state_behind
 
 COUNTERS = [(steps, first) for steps in (1, 2, 3, 4) for first in range(2 * steps)]
 
@@ -169,6 +169,13 @@ class IsCell(unittest.TestCase):
         for thing in things:
             self.is_none(thing)
         self.assertEqual(things, was)
+
+
+class StateBehind(unittest.TestCase):
+    def test_by_a_way_0_and_by_a_way_1(self):
+        cell = ((0, 1, 0), (1, 2, 2), (0, 0, 1))
+        self.assertEqual([state_behind(cell, state, 0) for state in range(3)], [1, 2, 2])
+        self.assertEqual([state_behind(cell, state, 1) for state in range(3)], [0, 0, 1])
 
 
 class Counter(unittest.TestCase):

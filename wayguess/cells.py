@@ -21,6 +21,11 @@ def are_up_to(row, last):
     return all(is_whole_between(thing, 0, last) for thing in row)
 
 
+def state_behind(cell, state, way):
+    """The state of a cell behind a way."""
+    return cell[1][state] if way == 0 else cell[2][state]
+
+
 def counter(steps, first):
     """The cell that counts up by a way 1 and down by a way 0, from the first step on."""
     last = 2 * steps - 1

@@ -1,7 +1,7 @@
 """Runs, and the patterns that stand for them."""
 
 from wayguess.errors import NoRun
-from wayguess.states import is_whole_between
+from wayguess.states import is_whole_between, word_of
 
 LAST_PLACE = 999
 MOST_TIMES = 10 ** 18
@@ -18,11 +18,9 @@ def is_pattern_within(thing, room):
     """Whether a thing is a pattern of at most room patterns within one another."""
     # The room is counted down on the way in, so that a thing that is
     # thousands deep is refused before it is gone into.
-    if room < 1 or not isinstance(thing, tuple) or len(thing) == 0:
+    if room < 1:
         return False
-    word = thing[0]
-    if not isinstance(word, str):
-        return False
+    word = word_of(thing)
     if word == "way":
         return is_way(thing)
     if word == "row":

@@ -1,0 +1,18 @@
+"""What README.md shows is what the program tells."""
+
+import doctest
+import pathlib
+import unittest
+
+README = pathlib.Path(__file__).resolve().parent.parent / "README.md"
+
+
+class Readme(unittest.TestCase):
+    def test_its_examples(self):
+        told = doctest.testfile(str(README), module_relative=False)
+        self.assertGreater(told.attempted, 20)
+        self.assertEqual(told.failed, 0)
+
+
+if __name__ == "__main__":
+    unittest.main()
