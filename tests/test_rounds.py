@@ -3,6 +3,7 @@
 import copy
 import random
 import unittest
+from unittest import mock
 
 from deep import deep_things
 from plain import KINDS, ONE, SAME, TURNING, Plain, are_wholes, drawn_guesser, drawn_pattern, written_out
@@ -10,6 +11,8 @@ from wayguess.guessers import first_state
 from wayguess.misses import passed
 from wayguess.patterns import misses_of, passed_pattern
 from wayguess.rounds import for_ever, is_round, misses_behind
+
+import wayguess.patterns
 
 MOST = 10 ** 18
 NOTHING = ("row", ())
@@ -113,6 +116,22 @@ class ForEver(unittest.TestCase):
         ]
         long = ("either", rings[0], ("either", rings[1], rings[2], 1, ONE), 1, ONE)
         self.assertEqual(for_ever(long, NOTHING, UP), (0, many, 0, many))
+
+    def test_a_round_that_is_the_pattern_ahead_is_gone_through_once_from_each_state(self):
+        ring = ("table", 1, ((0,) * 8,) + (tuple((at + 1) % 8 for at in range(8)),) * 2)
+        asked = []
+        real = wayguess.patterns.miss_and_state
+
+        def counted(guesser, state, place, way):
+            asked.append(state)
+            return real(guesser, state, place, way)
+
+        with mock.patch.object(wayguess.patterns, "miss_and_state", counted):
+            self.assertEqual(for_ever(ring, UP, UP), (0, 8, 1, 8))
+            self.assertEqual(sorted(asked), [(state,) for state in range(8)])
+            asked.clear()
+            self.assertEqual(for_ever(ring, times(MOST, UP), UP), (0, 8, MOST, 8))
+            self.assertEqual(sorted(asked), [(state,) for state in range(8)])
 
     def test_the_kinds_of_what_is_told(self):
         for guesser in KINDS:

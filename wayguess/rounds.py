@@ -5,11 +5,18 @@ from wayguess.patterns import Walk
 from wayguess.states import is_same_state, is_whole
 
 
+def behind_ahead(walk, ahead):
+    """The misses of the pattern ahead from the first state on, and the state behind it."""
+    # As a repeated body, of one pass, since the round may be the same pattern:
+    # then what is found here isn't gone through again.
+    return walk.repeated(walk.body_of(ahead), first_state(walk.guesser), 1)
+
+
 def for_ever(guesser, ahead, around):
     """(passes, round, misses, more): when the states ahead of the passes come round, and the misses till then."""
     walk = Walk(guesser)
     body = walk.body_of(around)
-    misses, state = walk.through(walk.body_of(ahead), first_state(guesser))
+    misses, state = behind_ahead(walk, ahead)
     known = {}
     while state not in known:
         known[state] = (len(known), misses)
@@ -22,7 +29,7 @@ def for_ever(guesser, ahead, around):
 def misses_behind(guesser, ahead, around, passes):
     """The misses of the pattern ahead and so many passes of the round."""
     walk = Walk(guesser)
-    misses, state = walk.through(walk.body_of(ahead), first_state(guesser))
+    misses, state = behind_ahead(walk, ahead)
     return misses + walk.repeated(walk.body_of(around), state, passes)[0]
 
 
@@ -33,7 +40,7 @@ def is_round(guesser, ahead, around, told, state):
     passes, length, misses, more = told
     walk = Walk(guesser)
     body = walk.body_of(around)
-    to_ahead, begun = walk.through(walk.body_of(ahead), first_state(guesser))
+    to_ahead, begun = behind_ahead(walk, ahead)
     to_state, there = walk.repeated(body, begun, passes)
     around_misses, again = walk.repeated(body, there, length)
     if not is_same_state(state, there) or not is_same_state(state, again):
