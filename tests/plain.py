@@ -4,6 +4,8 @@ It keeps all ways that were learned and counts the last ones anew each time, so 
 program but what the document says.
 """
 
+import random
+
 from wayguess.cells import counter
 from wayguess.guessers import first_state, guess, learned
 
@@ -19,6 +21,9 @@ JOINED = ("joined", 3, 2, ODD)
 OWN = ("own", 3, 2, TWO)
 EITHER = ("either", MIXED, OWN, 2, TWO)
 DEEP_EITHER = ("either", ("either", TABLE, SAME, 3, ODD), EITHER, 1, ONE)
+ANYTHING = (
+    None, True, 0, -1, 10 ** 30, "", "paper", b"", [], [[]], {}, {1: 2}, {1}, (), ((), (), ()), object(),
+)
 KINDS = (SAME, ("same", 0), TABLE, MIXED, JOINED, OWN, EITHER, DEEP_EITHER)
 
 
@@ -113,14 +118,20 @@ def written_out(pattern):
 
 def states_come_to(guesser, events, most):
     """All states that can be come to by these events, or None where there are more than most."""
-    known = [first_state(guesser)]
+    return all_from(
+        first_state(guesser), lambda state: [learned(guesser, state, place, way) for place, way in events], most
+    )
+
+
+def all_from(first, behind, most):
+    """All that can be come to, what is behind each as told; or None where there are more than most."""
+    known = [first]
     seen = set(known)
-    for state in known:
-        for place, way in events:
-            behind = learned(guesser, state, place, way)
-            if behind not in seen:
-                seen.add(behind)
-                known.append(behind)
+    for one in known:
+        for other in behind(one):
+            if other not in seen:
+                seen.add(other)
+                known.append(other)
         if len(known) > most:
             return None
     return known
@@ -190,3 +201,53 @@ def are_wholes(thing):
     if type(thing) is tuple:
         return all(are_wholes(item) for item in thing)
     return type(thing) is int
+
+
+def pairs_come_to(one, other, places, most):
+    """All pairs of states that can be come to by runs at these places, or None where there are more than most."""
+    events = [(place, way) for place in places for way in (0, 1)]
+    return all_from(
+        (first_state(one), first_state(other)),
+        lambda pair: [pair_behind(one, other, pair, place, way) for place, way in events],
+        most,
+    )
+
+
+def pair_behind(one, other, pair, place, way):
+    return (learned(one, pair[0], place, way), learned(other, pair[1], place, way))
+
+
+def difference(one, other, pair, place, way):
+    """How much more the first guesser misses an event than the second one."""
+    return int(guess(one, pair[0], place) != way) - int(guess(other, pair[1], place) != way)
+
+
+def drawn_places(draw, most=4, last=12):
+    return sorted(draw.sample(range(last + 1), draw.randint(1, most)))
+
+
+def drawn_pairs(seed, many, most):
+    """Pairs of guessers with places, and the pairs of states that can be come to, at most so many."""
+    draw = random.Random(seed)
+    told = []
+    while len(told) < many:
+        one = drawn_guesser(draw, 2)
+        other = drawn_guesser(draw, 2)
+        if draw.randrange(2) == 0 and one[0] != "same":
+            # A guesser of the same kind with another cell: these part later, if at all.
+            other = one[:-1] + (drawn_cell(draw),)
+        places = drawn_places(draw)
+        pairs = pairs_come_to(one, other, places, most)
+        if pairs is not None:
+            told.append((one, other, places, pairs))
+    return told
+
+
+def drawn_flow(draw, many):
+    """A flow of so many nodes; each third node or so has one way alone."""
+    told = []
+    for _ in range(many):
+        straight, aside = draw.randrange(many), draw.randrange(many)
+        left = draw.randrange(6)
+        told.append((draw.randint(0, 12), None if left == 0 else straight, None if left == 1 else aside))
+    return tuple(told)

@@ -10,7 +10,7 @@ from plain import (
     drawn_guesser, drawn_run,
 )
 from wayguess.cells import counter
-from wayguess.guessers import first_state, guess, is_guesser, learned, many_cells
+from wayguess.guessers import first_state, guess, is_guesser, is_state, learned, many_cells, rests_of
 
 WITH_LAST_WAYS = ("mixed", "joined", "own")
 OTHER_KINDS = (
@@ -431,6 +431,58 @@ class GuessAndLearned(unittest.TestCase):
             again = [(guess(guesser, state, place), learned(guesser, state, place, 1)) for place in range(20)]
             self.assertEqual(told, again)
             self.assertEqual((guesser, state), was)
+
+
+class IsState(unittest.TestCase):
+    """What is a state of a guesser, as the checkers of papers need it [9, 21, 26]."""
+
+    def test_all_that_can_be_come_to(self):
+        draw = random.Random(5)
+        for guesser in list(KINDS) + [drawn_guesser(draw) for _ in range(100)]:
+            state = first_state(guesser)
+            self.assertIs(is_state(guesser, state), True)
+            for place, way in drawn_run(draw, 20):
+                state = learned(guesser, state, place, way)
+                self.assertIs(is_state(guesser, state), True)
+
+    def test_one_that_can_t_be_come_to(self):
+        unmet = ((0, 1), (0, 0), (0, 0))
+        self.assertIs(is_state(("table", 2, unmet), (0, 1)), True)
+        self.assertIs(is_state(("own", 2, 1, unmet), ((1, 0), (1, 1))), True)
+
+    def test_no_state_of_another_guesser(self):
+        for guesser in KINDS:
+            for other in KINDS:
+                if first_state(other) != first_state(guesser):
+                    self.assertIs(is_state(guesser, first_state(other)), False)
+
+    def test_numbers_out_of_their_bounds(self):
+        for wrong in (-1, 2, True, False, None, "0", (0,), [0]):
+            self.assertIs(is_state(("table", 2, ONE), (0, wrong)), False)
+            self.assertIs(is_state(("mixed", 1, 1, ONE), (wrong, (0,))), False)
+            self.assertIs(is_state(("joined", 1, 1, ONE), (wrong, (0, 0))), False)
+            self.assertIs(is_state(("own", 2, 1, ONE), ((0, wrong), (0, 0))), False)
+            self.assertIs(is_state(("either", SAME, SAME, 1, ONE), ((), (), (wrong,))), False)
+
+    def test_other_kinds(self):
+        for thing in list(OTHER_KINDS) + deep_things():
+            for guesser in KINDS[2:]:
+                self.assertIs(is_state(guesser, thing), False)
+                self.assertIs(is_state(guesser, (first_state(guesser), thing)), False)
+                self.assertIs(is_state(guesser, first_state(guesser)[:-1] + ((thing, None),)), False)
+            self.assertIs(is_state(SAME, thing), thing == () and isinstance(thing, tuple))
+
+
+class Rests(unittest.TestCase):
+    def test_places_with_the_same_rests_are_alike(self):
+        draw = random.Random(6)
+        for guesser in list(KINDS) + [drawn_guesser(draw) for _ in range(60)]:
+            state = state_behind(guesser, drawn_run(draw, 15))
+            told = {}
+            for place in range(130):
+                behind = [learned(guesser, state, place, way) for way in (0, 1)]
+                done = (guess(guesser, state, place), behind)
+                self.assertEqual(told.setdefault(rests_of(guesser, place), done), done)
 
 
 class Beyond(unittest.TestCase):

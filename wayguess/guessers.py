@@ -1,6 +1,6 @@
 """Guessers: what they guess at a place, and how they learn a way."""
 
-from wayguess.cells import is_cell, state_behind
+from wayguess.cells import are_up_to, is_cell, state_behind
 from wayguess.states import is_whole_between, word_of
 
 MOST_SIZE = 16
@@ -83,6 +83,16 @@ def many_own_cells(guesser):
     return size_of(guesser)
 
 
+def rests_of(guesser, place):
+    """The rests of a place by a guesser's sizes: at places with the same ones it does the same."""
+    if guesser[0] == "same":
+        return ()
+    rest = place % size_of(guesser)
+    if guesser[0] == "either":
+        return (rest,) + rests_of(guesser[1], place) + rests_of(guesser[2], place)
+    return (rest,)
+
+
 def first_state(guesser):
     """The state in which a guesser begins."""
     cells = (0,) * many_own_cells(guesser)
@@ -93,6 +103,28 @@ def first_state(guesser):
     if guesser[0] == "own":
         return (0,) * size_of(guesser), cells
     return 0, cells
+
+
+def is_state(guesser, thing):
+    """Whether a thing, of any kind, is a state of a guesser, whether or not it can be come to."""
+    if guesser[0] in ("same", "table"):
+        return are_own_cells(guesser, thing)
+    many = 3 if guesser[0] == "either" else 2
+    if not isinstance(thing, tuple) or len(thing) != many or not are_own_cells(guesser, thing[-1]):
+        return False
+    if guesser[0] == "either":
+        return is_state(guesser[1], thing[0]) and is_state(guesser[2], thing[1])
+    last = many_numbers(guesser[2]) - 1
+    if guesser[0] == "own":
+        return isinstance(thing[0], tuple) and len(thing[0]) == size_of(guesser) and are_up_to(thing[0], last)
+    return is_whole_between(thing[0], 0, last)
+
+
+def are_own_cells(guesser, thing):
+    """Whether a thing, of any kind, is a tuple of the states of a guesser's own cells."""
+    if not isinstance(thing, tuple) or len(thing) != many_own_cells(guesser):
+        return False
+    return guesser[0] == "same" or are_up_to(thing, len(guesser[-1][0]) - 1)
 
 
 def guess(guesser, state, place):
