@@ -1,6 +1,7 @@
 """The form of the package's files: the rules that a short test can see."""
 
 import ast
+import builtins
 import pathlib
 import re
 import unittest
@@ -17,6 +18,11 @@ BUILTINS = (
     "ZeroDivisionError ArithmeticError OverflowError RuntimeError NotImplementedError AttributeError StopIteration "
     "NotImplemented"
 ).split()
+METHODS_OF_BUILTIN_VALUES = set((
+    "append clear copy count endswith extend find get index insert isalnum isalpha isdigit islower isspace isupper "
+    "items join keys ljust lower lstrip partition pop remove replace reverse rfind rjust rpartition rsplit rstrip setdefault "
+    "split splitlines startswith strip update upper values zfill bit_length"
+).split())
 
 
 def files():
@@ -82,6 +88,31 @@ class Form(unittest.TestCase):
             for node in ast.walk(tree):
                 if isinstance(node, ast.Name) and isinstance(node.ctx, ast.Load):
                     self.assertTrue(node.id in known or node.id in BUILTINS, (path.name, node.id))
+
+    def test_no_local_name_is_an_import_a_class_or_a_builtin(self):
+        for path in files():
+            tree = ast.parse(path.read_text(encoding="utf-8"))
+            taken = set(dir(builtins))
+            for node in ast.walk(tree):
+                if isinstance(node, ast.ImportFrom):
+                    taken.update(alias.asname or alias.name for alias in node.names)
+                elif isinstance(node, ast.ClassDef):
+                    taken.add(node.name)
+            for node in ast.walk(tree):
+                if isinstance(node, ast.Name) and isinstance(node.ctx, ast.Store):
+                    self.assertNotIn(node.id, taken, (path.name, node.lineno))
+                elif isinstance(node, ast.arg):
+                    self.assertNotIn(node.arg, taken, (path.name, node.lineno))
+
+    def test_methods_and_attributes(self):
+        nodes = [node for path in files() for node in ast.walk(ast.parse(path.read_text(encoding="utf-8")))]
+        classes = [node for node in nodes if isinstance(node, ast.ClassDef)]
+        methods = {part.name for node in classes for part in node.body if isinstance(part, ast.FunctionDef)}
+        read = {node.attr for node in nodes if isinstance(node, ast.Attribute)}
+        kept = {node.attr for node in nodes if isinstance(node, ast.Attribute) and isinstance(node.ctx, ast.Store)}
+        self.assertEqual(methods & kept, set())
+        self.assertLessEqual(read - methods - kept, METHODS_OF_BUILTIN_VALUES)
+        self.assertEqual((methods | kept) & METHODS_OF_BUILTIN_VALUES, set())
 
     def test_no_points_and_no_parts_of_numbers(self):
         for path in files():
