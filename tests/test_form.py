@@ -20,8 +20,8 @@ BUILTINS = (
 ).split()
 METHODS_OF_BUILTIN_VALUES = set((
     "append clear copy count endswith extend find get index insert isalnum isalpha isdigit islower isspace "
-    "isupper items join keys ljust lower lstrip partition pop remove replace reverse rfind rjust rpartition rsplit rstrip setdefault "
-    "split splitlines startswith strip update upper values zfill bit_length"
+    "isupper items join keys ljust lower lstrip partition pop remove replace reverse rfind rjust rpartition "
+    "rsplit rstrip setdefault split splitlines startswith strip update upper values zfill bit_length"
 ).split())
 
 
